@@ -1,0 +1,1 @@
+"""Documents that have to be right: orders, deliveries, invoices and credit notes."""

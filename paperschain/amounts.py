@@ -1,0 +1,76 @@
+"""What amounts, taxes and totals have to be."""
+
+from paperschain.archive import CREDIT, INVOICE, Tax, followers, line_of, quantity_taken
+from paperschain.rounding import nearest, shares
+
+WHOLE_RATE = 10000
+
+
+def line_amount(archive, document, line_number, quantity):
+    if document.kind == INVOICE:
+        return quantity * line_of(archive.document_at(document.order), line_number).price
+    if document.kind == CREDIT:
+        return credit_amount(archive, document.refers, line_number, quantity)
+    return 0
+
+
+# rounding all that is credited by now, not each part, makes the parts together just the net
+def credit_amount(archive, invoice_number, line_number, quantity):
+    invoice = archive.document_at(invoice_number)
+    invoiced = line_of(invoice, line_number).quantity
+    net = net_of_line(invoice, line_number)
+    before = quantity_taken(archive, invoice_number, line_number)
+    return nearest(net * (before + quantity), invoiced) - nearest(net * before, invoiced)
+
+
+# a credit note has no discount, so its nets are its amounts
+def nets(document):
+    amounts = [line.amount for line in document.lines]
+    discounts = shares(document.discount, amounts)
+    return [amount - discount for amount, discount in zip(amounts, discounts)]
+
+
+def net_of_line(document, line_number):
+    for line, net in zip(document.lines, nets(document)):
+        if line.number == line_number:
+            return net
+    return 0
+
+
+# a dict keeps the order in which keys came: the least rate is first
+def bases(archive, document):
+    order = archive.document_at(document.order)
+    rates = [line_of(order, line.number).rate for line in document.lines]
+    found = {}
+    for rate in sorted(set(rates)):
+        found[rate] = 0
+    for rate, net in zip(rates, nets(document)):
+        found[rate] += net
+    return found
+
+
+def base_credited(archive, invoice_number, rate):
+    together = 0
+    for follower in followers(archive, invoice_number):
+        for tax in archive.document_at(follower).taxes:
+            if tax.rate == rate:
+                together += tax.base
+    return together
+
+
+# as with amounts, all that is credited by now is rounded, so that the taxes together are just the invoice's
+def tax_amount(archive, document, rate, base):
+    before = 0
+    if document.kind == CREDIT:
+        before = base_credited(archive, document.refers, rate)
+    return nearest((before + base) * rate, WHOLE_RATE) - nearest(before * rate, WHOLE_RATE)
+
+
+# taxes and total hang on all lines and the discount, so these must be there
+def settle(archive, document):
+    document.taxes = []
+    document.total = 0
+    for rate, base in bases(archive, document).items():
+        tax = tax_amount(archive, document, rate, base)
+        document.taxes.append(Tax(rate, base, tax))
+        document.total += base + tax
