@@ -143,6 +143,7 @@ class Read(unittest.TestCase):
         self.assertEqual(ask(("read", [32] * 3000), ("check", [10] * 3000)), [[0, 0], [0, 0, 0, 0]])
         self.assertEqual(ask(("check", [10] * 2999 + bytes_of("x"))), [[0, 3000, 1, 1]])
         self.assertEqual(ask(("check", bytes_of("x ") * 1500)), [[0, 1, 1, 1]])
+        self.assertEqual(ask(("read", [32] * 3001), ("check", [32] * 3001)), [[-1], [-1]])
 
     def test_nothing_of_a_wrong_text_is_filed(self):
         more = "money USD 2\norder A1 coin USD day 1\nline a 1 at 1.00 rate 0\nend\n"

@@ -251,6 +251,7 @@ class Why2(Places):
             (ORDER + "line a 1 at 1.00 rate 0\nline a 1 at 1.00 rate 0", (3, 2, 2)),
             (DELIVERY + "line 1 1\nline 1 1", (3, 2, 2)),
             (DELIVERY + "line 2 1\nline 1 1", (3, 2, 2)),
+            (DELIVERY + "line 1 1\nline 2 1\nline 2 1", (4, 2, 2)),
             (INVOICE + "line 3 1 = 0.00\nline 1 1 = 1.05", (3, 2, 2)),
             (CREDIT + "line 1 1 = 1.00\nline 1 1 = 1.00", (3, 2, 2)),
         ])
