@@ -212,7 +212,7 @@ def read_tax(reader, row):
         settle(reader.archive, document)
         reader.stage = AT_TAXES
     due = document.taxes[reader.taxes_told]
-    if row.take_number() != due.rate:
+    if row.take_number_within(0, MOST_RATE) != due.rate:
         row.fail(NOT_WHAT_IT_HAS_TO_BE)
     row.take_due_amount(reader.coin_digits(), due.base)
     row.take_word(EQUAL)

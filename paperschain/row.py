@@ -72,14 +72,11 @@ class Row:
             self.fail(NOT_HERE)
         return word
 
-    def take_number(self):
+    def take_number_within(self, least, most):
         word = self.take()
         if not is_number(word, MOST_NUMBER_DIGITS):
             self.fail(NOT_HERE)
-        return int(word)
-
-    def take_number_within(self, least, most):
-        number = self.take_number()
+        number = int(word)
         if number < least or number > most:
             self.fail(OUT_OF_RANGE)
         return number

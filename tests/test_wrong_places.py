@@ -315,6 +315,15 @@ class Why4(Places):
             (INVOICE + "line 1 0 = 0.00", (2, 3, 4)),
         ])
 
+    def test_rate_of_a_tax_line(self):
+        self.all_told([
+            (INVOICE + "line 1 2 = 2.10\ntax 5001 2.10 = 0.40", (3, 2, 4)),
+            (INVOICE + "line 1 2 = 2.10\ntax 999999999 2.10 = 0.40", (3, 2, 4)),
+            (INVOICE + "line 1 2 = 2.10\ntax 1000000000 2.10 = 0.40", (3, 2, 1)),
+            (INVOICE + "line 1 1 = 1.05\nline 3 1 = 0.00\ntax 700 0.00 = 0.00\ntax 5001 1.05 = 0.20", (5, 2, 4)),
+            (CREDIT + "line 1 1 = 1.00\ntax 5001 1.00 = 0.19", (3, 2, 4)),
+        ])
+
     def test_price_of_a_coin_without_digits(self):
         order = "order A1 coin JPY day 1\n"
         self.told(order + "line a 1 at 1000000 rate 0\nend", RIGHT)
@@ -402,8 +411,7 @@ class Why6(Places):
             (INVOICE + line + "tax 1901 2.10 = 0.40", (3, 2, 6)),
             (INVOICE + line + "tax 700 2.10 = 0.40", (3, 2, 6)),
             (INVOICE + line + "tax 0 2.10 = 0.40", (3, 2, 6)),
-            (INVOICE + line + "tax 5001 2.10 = 0.40", (3, 2, 6)),
-            (INVOICE + line + "tax 999999999 2.10 = 0.40", (3, 2, 6)),
+            (INVOICE + line + "tax 5000 2.10 = 0.40", (3, 2, 6)),
             (INVOICE + line + "tax 1900 2.09 = 0.40", (3, 3, 6)),
             (INVOICE + line + "tax 1900 2.10 = 0.39", (3, 5, 6)),
             (INVOICE + line + tax + "total 2.49", (4, 2, 6)),
@@ -412,6 +420,7 @@ class Why6(Places):
             (CREDIT + "line 1 1 = 0.99", (2, 5, 6)),
             (CREDIT + "line 1 1 = 1.05", (2, 5, 6)),
             (CREDIT + "line 1 1 = 1.00\ntax 700 1.00 = 0.19", (3, 2, 6)),
+            (CREDIT + "line 1 1 = 1.00\ntax 5000 1.00 = 0.19", (3, 2, 6)),
             (CREDIT + "line 1 1 = 1.00\ntax 1900 1.01 = 0.19", (3, 3, 6)),
             (CREDIT + "line 1 1 = 1.00\ntax 1900 1.00 = 0.20", (3, 5, 6)),
             (CREDIT + "line 1 1 = 1.00\ntax 1900 1.00 = 0.19\ntotal 1.20", (4, 2, 6)),
