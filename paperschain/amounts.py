@@ -31,16 +31,23 @@ def nets(document):
 
 
 def net_of_line(document, line_number):
-    for line, net in zip(document.lines, nets(document)):
-        if line.number == line_number:
-            return net
-    return 0
+    numbers = [line.number for line in document.lines]
+    return nets(document)[numbers.index(line_number)]
+
+
+def amounts_together(document):
+    return sum([line.amount for line in document.lines])
+
+
+# rates stand in the order alone
+def rates_of_lines(archive, document):
+    order = archive.document_at(document.order)
+    return [line_of(order, line.number).rate for line in document.lines]
 
 
 # a dict keeps the order in which keys came: the least rate is first
 def bases(archive, document):
-    order = archive.document_at(document.order)
-    rates = [line_of(order, line.number).rate for line in document.lines]
+    rates = rates_of_lines(archive, document)
     found = {}
     for rate in sorted(set(rates)):
         found[rate] = 0
@@ -74,3 +81,15 @@ def settle(archive, document):
         tax = tax_amount(archive, document, rate, base)
         document.taxes.append(Tax(rate, base, tax))
         document.total += base + tax
+
+
+# by line; of a rate's tax only the lines of this rate have a share
+def tax_shares(archive, document):
+    rates = rates_of_lines(archive, document)
+    weights = nets(document)
+    shared = [0 for rate in rates]
+    for tax in document.taxes:
+        places = [k for k, rate in enumerate(rates) if rate == tax.rate]
+        for k, share in zip(places, shares(tax.tax, [weights[k] for k in places])):
+            shared[k] = share
+    return shared

@@ -9,6 +9,8 @@ KIND_WORDS = ("order", "delivery", "invoice", "credit")
 MOST_COINS = 4
 MOST_DOCUMENTS = 40
 MOST_LINES = 8
+MOST_QUANTITY = 10000
+MOST_UNITS = 1000000000000
 
 
 class Coin:

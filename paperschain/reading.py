@@ -1,12 +1,13 @@
 """Reading a text behind what is filed."""
 
-from paperschain.amounts import line_amount, settle
+from paperschain.amounts import amounts_together, line_amount, settle
 from paperschain.archive import (
     DELIVERY,
     KIND_WORDS,
     MOST_COINS,
     MOST_DOCUMENTS,
     MOST_LINES,
+    MOST_QUANTITY,
     ORDER,
     Coin,
     Document,
@@ -30,7 +31,6 @@ from paperschain.words import EQUAL, sign_table, split_lines, split_words
 
 MOST_DIGITS = 4
 MOST_DAY = 100000
-MOST_QUANTITY = 10000
 MOST_PRICE = 1000000
 MOST_RATE = 5000
 
@@ -200,8 +200,7 @@ def read_further_line(reader, row):
 
 def read_less(reader, row):
     document = reader.document
-    together = sum([line.amount for line in document.lines])
-    document.discount = row.take_amount_within(reader.coin_digits(), 1, together)
+    document.discount = row.take_amount_within(reader.coin_digits(), 1, amounts_together(document))
     settle(reader.archive, document)
     reader.stage = AT_TAXES
 

@@ -1,5 +1,6 @@
 """One line of a text, whose words are taken one after the other."""
 
+from paperschain.archive import MOST_UNITS
 from paperschain.words import (
     MOST_NUMBER_DIGITS,
     amount_units,
@@ -16,8 +17,6 @@ OUT_OF_RANGE = 4
 TOO_MANY = 5
 NOT_WHAT_IT_HAS_TO_BE = 6
 MORE_THAN_OPEN = 7
-
-MOST_UNITS = 1000000000000
 
 
 # raised at the first wrong word, so that nothing behind it is looked at

@@ -5,9 +5,60 @@ from math import floor
 
 from paperschain.filed import answers
 
-CALLS = {"read": 0, "check": 1, "print": 2, "file": 3, "doc": 4, "lines": 5, "taxes": 6, "open": 7, "chain": 8}
+CALLS = {
+    "read": 0, "check": 1, "print": 2, "file": 3, "doc": 4, "lines": 5, "taxes": 6, "open": 7, "chain": 8, "spread": 9,
+    "left": 10, "sums": 11, "bill": 12, "note": 13, "find": 14, "clear": 15, "counts": 16,
+}
+MOST_CALLS = 60
+MOST_NUMBERS = 17000
 LEAST = -1000000000000000000
 MOST = 1000000000000000000
+
+# the documents 1 to 8: O1, D1, O2, I1, D2, C1, I2, C20
+STORY = """
+  money EUR 2
+order O1 coin EUR day 10
+   line bolt 10 at 1.05 rate 1900
+   line nut 20 at 0.33 rate 700
+   line gift 5 at 0.00 rate 700
+end
+money JPY 0
+
+delivery D1 coin EUR day 12 refers O1
+  line 1 6
+  line  3   5
+end
+order O2 coin JPY day 11
+  line tea 3 at 1000000 rate 0
+end
+invoice I1 coin EUR day 14 refers D1
+  line 1 4 = 4.20
+  line 3 2 = 0.00
+  less 0.21
+  tax 700 0.00 = 0.00
+  tax 1900 3.99 = 0.76
+  total 4.75
+end
+delivery D2 coin EUR day 13 refers O1
+  line 2 8
+end
+credit C1 coin EUR day 16 refers I1
+  line 1 1 = 1.00
+  tax 1900 1.00 = 0.19
+  total 1.19
+end
+invoice I2 coin EUR day 12 refers D1
+  line 1 2 = 2.10
+  tax 1900 2.10 = 0.40
+  total 2.50
+end
+credit C20 coin EUR day 16 refers I1
+  line 1 2 = 1.99
+  line 3 2 = 0.00
+  tax 700 0.00 = 0.00
+  tax 1900 1.99 = 0.38
+  total 2.37
+end"""
 
 
 def bytes_of(written):
@@ -20,6 +71,8 @@ def text_of(numbers):
 
 def flat(calls):
     """The list of numbers for calls such as ("read", "money EUR 2") or ("doc", 1)."""
+    calls = list(calls)
+    assert 1 <= len(calls) <= MOST_CALLS, len(calls)
     row = []
     for name, *parts in calls:
         row.append(CALLS[name])
@@ -29,6 +82,7 @@ def flat(calls):
             else:
                 numbers = bytes_of(part) if isinstance(part, str) else list(part)
                 row += [len(numbers)] + numbers
+    assert len(row) <= MOST_NUMBERS, len(row)
     return row
 
 
@@ -51,6 +105,10 @@ def ask_last(*calls):
     return ask(*calls)[-1]
 
 
+def of_story(*call):
+    return ask_last(("read", STORY), call)
+
+
 def wrong_place(written, behind=""):
     """What check tells of the text, read behind another that must be right."""
     first, second = ask(("read", behind), ("check", written))
@@ -65,6 +123,42 @@ def questions(documents):
     for n in range(1, documents + 1):
         calls += [(name, n) for name in ("print", "doc", "lines", "taxes", "open", "chain")]
     return calls
+
+
+def further_questions(documents):
+    """What the calls 9 to 16 answer of what is filed, but for clear."""
+    calls = [("counts",)] + [("sums", coin) for coin in range(6)]
+    calls += [("find", name) for name in ("O1", "D1", "I1", "C1", "C20", "x", "")]
+    for n in range(1, documents + 1):
+        calls += [("spread", n), ("left", n)]
+        for row in ((1,), (0, 1, 2), (0, 0, 1), (1, 1, 1, 1, 1, 1, 1, 1), ()):
+            calls += [("bill", n, 0, row), ("bill", n, 1, row), ("note", n, row)]
+    return calls
+
+
+def ask_behind(texts, asked):
+    """The answers to however many questions behind these texts, in as many lines of calls as they need."""
+    reads = [("read", text) for text in texts]
+    room = MOST_CALLS - len(reads)
+    given = []
+    for start in range(0, len(asked), room):
+        answered = ask(*reads, *asked[start:start + room])
+        assert [-5] not in answered[:len(reads)], answered[:len(reads)]
+        given += answered[len(reads):]
+    return given
+
+
+def draft_parts(answer):
+    """The total, lines and taxes that bill or note told."""
+    assert answer[0] == 0, answer
+    lines_end = 3 + 3 * answer[2]
+    taxes_end = lines_end + 1 + 3 * answer[lines_end]
+    assert len(answer) == taxes_end, answer
+    return answer[1], triples(answer[3:lines_end]), triples(answer[lines_end + 1:])
+
+
+def triples(numbers):
+    return [tuple(numbers[k:k + 3]) for k in range(0, len(numbers), 3)]
 
 
 def nearest(fraction):
@@ -91,12 +185,22 @@ def written_amount(units, digits):
     return f"{units // 10 ** digits}.{units % 10 ** digits:0{digits}d}"
 
 
-class Invoice:
-    """An invoice of one delivery of a whole order, with what has been credited of it, reckoned with fractions."""
+def spread(nets, rates, taxes):
+    """What spread tells: lines of other rates weigh nothing, so they get no share."""
+    shared = [0] * len(nets)
+    for rate, base, tax in taxes:
+        weights = [net if of_line == rate else 0 for net, of_line in zip(nets, rates)]
+        shared = [before + share for before, share in zip(shared, shares(tax, weights))]
+    return [number for net, tax in zip(nets, shared) for number in (net, tax, net + tax)]
 
-    def __init__(self, order, discount, digits):
-        # order: (quantity, price, rate) for each line
+
+class Invoice:
+    """An invoice, with what has been credited of it, reckoned with fractions."""
+
+    def __init__(self, order, discount, digits, numbers=None):
+        # order: (quantity, price, rate) for each line; numbers: those of the order's lines
         self.order = order
+        self.numbers = numbers or list(range(1, len(order) + 1))
         self.discount = discount
         self.digits = digits
         self.amounts = [quantity * price for quantity, price, rate in order]
@@ -110,11 +214,14 @@ class Invoice:
     def base(self, rate):
         return sum(net for net, line in zip(self.nets, self.order) if line[2] == rate)
 
+    def lines(self):
+        return [(number, line[0], amount) for number, line, amount in zip(self.numbers, self.order, self.amounts)]
+
     def tax_of(self, rate, base):
         return nearest(Fraction(base * rate, 10000))
 
     def credit(self, quantities):
-        """The (line, quantity, amount), the taxes and the total of a further credit note."""
+        """The (line, quantity, amount), the taxes and the total of a further credit note, line by line of its own."""
         lines = []
         bases = {}
         for k, quantity in enumerate(quantities):
@@ -123,7 +230,7 @@ class Invoice:
                 before = self.credited[k]
                 amount = (nearest(Fraction(self.nets[k] * (before + quantity), whole))
                           - nearest(Fraction(self.nets[k] * before, whole)))
-                lines.append((k + 1, quantity, amount))
+                lines.append((self.numbers[k], quantity, amount))
                 bases[rate] = bases.get(rate, 0) + amount
                 self.credited[k] += quantity
         taxes = []
@@ -153,9 +260,8 @@ class Invoice:
         return "\n".join(rows + [f"total {self.written(total)}", "end", ""])
 
     def invoice_text(self):
-        lines = [(k + 1, line[0], amount) for k, (line, amount) in enumerate(zip(self.order, self.amounts))]
         heading = "invoice I1 coin EUR day 4 refers D1\n"
-        return heading + self.closing_text(lines, self.discount, self.taxes, self.total)
+        return heading + self.closing_text(self.lines(), self.discount, self.taxes, self.total)
 
     def credit_text(self, number, credit):
         lines, taxes, total = credit

@@ -1,54 +1,23 @@
-"""The calls 0 to 8: answers, refusals, and the list that is handed in and given back."""
+"""The calls 0 to 8, and of all calls the list that is handed in and given back."""
 
 import unittest
 
 from paperschain.filed import answers
-from tests.helper import LEAST, MOST, ask, ask_last, bytes_of, flat, questions, split, text_of
+from tests.helper import (
+    LEAST,
+    MOST,
+    STORY,
+    ask,
+    ask_last,
+    bytes_of,
+    flat,
+    further_questions,
+    of_story,
+    questions,
+    split,
+    text_of,
+)
 
-STORY = """
-  money EUR 2
-order O1 coin EUR day 10
-   line bolt 10 at 1.05 rate 1900
-   line nut 20 at 0.33 rate 700
-   line gift 5 at 0.00 rate 700
-end
-money JPY 0
-
-delivery D1 coin EUR day 12 refers O1
-  line 1 6
-  line  3   5
-end
-order O2 coin JPY day 11
-  line tea 3 at 1000000 rate 0
-end
-invoice I1 coin EUR day 14 refers D1
-  line 1 4 = 4.20
-  line 3 2 = 0.00
-  less 0.21
-  tax 700 0.00 = 0.00
-  tax 1900 3.99 = 0.76
-  total 4.75
-end
-delivery D2 coin EUR day 13 refers O1
-  line 2 8
-end
-credit C1 coin EUR day 16 refers I1
-  line 1 1 = 1.00
-  tax 1900 1.00 = 0.19
-  total 1.19
-end
-invoice I2 coin EUR day 12 refers D1
-  line 1 2 = 2.10
-  tax 1900 2.10 = 0.40
-  total 2.50
-end
-credit C20 coin EUR day 16 refers I1
-  line 1 2 = 1.99
-  line 3 2 = 0.00
-  tax 700 0.00 = 0.00
-  tax 1900 1.99 = 0.38
-  total 2.37
-end"""
 FORM = {
     1: """order O1 coin EUR day 10
 line bolt 10 at 1.05 rate 1900
@@ -101,10 +70,6 @@ end
 }
 WHOLE_FORM = "money EUR 2\nmoney JPY 0\n" + "".join(FORM.values())
 DOCUMENT_CALLS = ("print", "doc", "lines", "taxes", "open", "chain")
-
-
-def of_story(name, n):
-    return ask_last(("read", STORY), (name, n))
 
 
 class Read(unittest.TestCase):
@@ -292,6 +257,23 @@ class Lists(unittest.TestCase):
         self.assertEqual(answers([0, 0]), [2, 0, 0])
         self.assertEqual(answers([8, 5]), [1, -3])
 
+    def test_further_calls_one_behind_another(self):
+        form = bytes_of("money EUR 2\norder A1 coin EUR day 0\nline a 3 at 0.10 rate 500\nend\n"
+                        "delivery B1 coin EUR day 0 refers A1\nline 1 3\nend\n")
+        calls = [0, len(form)] + form + [
+            12, 2, 0, 1, 3, 12, 2, 1, 3, 3, 0, 0, 12, 2, 0, 0, 13, 2, 1, 3, 11, 1, 11, 0, 9, 2, 10, 40, 14, 2, 66, 49,
+            14, 0, 16, 15, 16, 12, 2, 0, 1, 3, 3]
+        self.assertEqual(answers(calls), [2, 0, 2] + [
+            10, 0, 32, 1, 1, 3, 30, 1, 500, 30, 2, 10, 0, 30, 1, 1, 3, 30, 1, 500, 29, 1, 1, -8, 1, -4, 1, 0, 1, -1,
+            1, -4, 1, -3, 2, 0, 2, 2, 0, 0, 6, 0, 1, 1, 1, 0, 0, 1, 0, 6, 0, 0, 0, 0, 0, 0, 1, -3, 1, 0])
+
+    def test_rows_of_3000_numbers(self):
+        for row in ([0] * 3000, [MOST] * 3000, [LEAST] * 3000):
+            given = ask(("read", STORY), ("bill", 5, 0, row), ("note", 4, row), ("find", row), ("counts",))
+            self.assertEqual(given[1:3], [[-1], [-1]])
+            self.assertEqual(given[3], [0, 0] if row[0] == 0 else [-1])
+            self.assertEqual(given[4], [0, 2, 2, 2, 2, 2])
+
     def test_60_calls(self):
         given = ask(*[("read", STORY)] + [("lines", 1), ("open", 4), ("taxes", 41)] * 19 + [("file",), ("chain", 4)])
         self.assertEqual(len(given), 60)
@@ -300,23 +282,24 @@ class Lists(unittest.TestCase):
         self.assertEqual(text_of(given[58][1:]), WHOLE_FORM)
 
     def test_the_list_is_not_changed(self):
-        calls = flat([("read", STORY), ("check", STORY), ("read", [300]), *questions(9)])
+        calls = flat([("read", STORY), ("check", STORY), ("read", [300]), *further_questions(2), ("clear",)])
         before = list(calls)
         answers(calls)
         self.assertEqual(calls, before)
 
     def test_the_same_list_gives_the_same(self):
-        calls = flat([("read", STORY), *questions(9)])
+        calls = flat([("read", STORY), *further_questions(2), ("clear",), ("read", STORY), ("file",)])
         first = answers(calls)
         answers(flat([("read", "money EUR 4")]))
         self.assertEqual(answers(calls), first)
         self.assertEqual(answers([3]), [1, 0])
 
     def test_what_is_given_back_is_whole_numbers(self):
-        given = answers(flat([("read", STORY), ("check", "x"), *questions(9)]))
-        self.assertIs(type(given), list)
-        self.assertEqual({type(number) for number in given}, {int})
-        self.assertEqual(sum(len(answer) + 1 for answer in split(given)), len(given))
+        for asked in (questions(9), further_questions(2), further_questions(9)[-50:]):
+            given = answers(flat([("read", STORY), ("check", "x"), *asked, ("clear",)]))
+            self.assertIs(type(given), list)
+            self.assertEqual({type(number) for number in given}, {int})
+            self.assertEqual(sum(len(answer) + 1 for answer in split(given)), len(given))
 
     def test_changing_what_is_given_back_changes_nothing(self):
         calls = flat([("read", STORY), ("file",)])

@@ -1,9 +1,9 @@
-"""The promises 1, 2, 3 and 5, over many stories."""
+"""The promises 1, 2, 3 and 5, over many stories; 4 stands with bill and note."""
 
 import unittest
 from random import Random
 
-from tests.helper import ask, questions, text_of, wrong_place
+from tests.helper import STORY, ask, ask_behind, further_questions, questions, text_of, wrong_place, written_amount
 from tests.test_amounts import random_invoice, random_parts
 
 
@@ -35,11 +35,18 @@ def changed(written, place, change):
     return "\n".join(" ".join(words) for words in rows)
 
 
-def one_more(amount):
-    """The amount that is one unit more, with as many digits behind the point."""
+def shifted(amount, shift):
+    """The amount so many units more, never below 0, with as many digits behind the point."""
     whole, point, rest = amount.partition(".")
-    units = str(int(whole + rest) + 1).zfill(len(rest) + 1)
-    return units[:len(units) - len(rest)] + point + units[len(units) - len(rest):]
+    return written_amount(max(int(whole + rest) + shift, 0), len(rest))
+
+
+def one_more(amount):
+    return shifted(amount, 1)
+
+
+def one_less(amount):
+    return shifted(amount, -1)
 
 
 class WhatIsFiledIsRight(unittest.TestCase):
@@ -173,6 +180,22 @@ class OneForm(unittest.TestCase):
                 self.assertEqual(ask(*[("read", text) for text in loose], *asked)[len(texts):], given)
             if len(form) <= 3000:
                 self.assertEqual(ask(("read", form), *asked)[1:], given)
+
+    def test_read_by_a_new_object_it_answers_all_calls_alike(self):
+        random = Random(37)
+        for turn in range(12):
+            told, texts = story(random)
+            documents = len(texts) + 1
+            asked = questions(documents) + further_questions(documents)
+            given = ask_behind(texts, asked)
+            self.assertEqual(ask_behind([text_of(given[0][1:])], asked), given)
+
+    def test_of_the_story(self):
+        asked = questions(9) + further_questions(9)
+        given = ask_behind([STORY], asked)
+        self.assertEqual(ask_behind([text_of(given[0][1:])], asked), given)
+        cleared = ask(("read", STORY), ("clear",), ("read", given[0][1:]), ("file",))
+        self.assertEqual(cleared[2:], [[0, 8], given[0]])
 
     def test_print_is_a_part_of_file(self):
         random = Random(31)

@@ -280,6 +280,20 @@ class Why3(Places):
             (CREDIT + "line 2 1 = 0.33", (2, 2, 3)),
         ])
 
+    def test_not_there_behind_a_document_of_the_kind_to_refer_to(self):
+        ordered = ORDER + "line a 1 at 1.00 rate 0\nend\n"
+        delivered = DELIVERY + "line 1 1\nend\n"
+        invoiced = INVOICE + "line 3 1 = 0.00\ntax 700 0.00 = 0.00\ntotal 0.00\nend\n"
+        self.all_told([
+            (ordered + "delivery B1 coin EUR day 20 refers O9", (4, 8, 3)),
+            (delivered + "invoice B1 coin EUR day 20 refers D9", (4, 8, 3)),
+            (invoiced + "credit B1 coin EUR day 20 refers I9", (6, 8, 3)),
+        ])
+
+    def test_not_there_where_nothing_is_filed(self):
+        self.assertEqual(wrong_place("money EUR 2\ndelivery A1 coin EUR day 1 refers O1"), (2, 8, 3))
+        self.assertEqual(wrong_place("order A1 coin EUR day 1"), (1, 4, 3))
+
     def test_a_coin_or_document_of_the_same_text_is_there(self):
         written = "money USD 0\norder A1 coin USD day 1\nline a 1 at 1 rate 0\nend\n"
         self.told(written + "delivery A2 coin USD day 1 refers A1\nline 1 1\nend", RIGHT)
